@@ -1,0 +1,1 @@
+"""Anywithin: records within records, any number at every level."""
