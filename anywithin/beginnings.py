@@ -46,7 +46,8 @@ def told_seeds(seeds):
 
 
 def need_beginning(kinds, beginning):
-    """Tell the told form of beginning, or refuse it."""
+    """Tell the told form of beginning, or refuse kinds or beginning."""
+    need_kinds(kinds)
     index = seed_index(kinds, beginning)
     if index is not None:
         raise BadBeginning(index)
@@ -55,20 +56,17 @@ def need_beginning(kinds, beginning):
 
 def told_beginning(kinds, beginning):
     """Tell the told form: tuples throughout, ascending at each level."""
-    need_kinds(kinds)
     return need_beginning(kinds, beginning)
 
 
 def begins(kinds, beginning, stand):
     """Tell whether stand lies in beginning."""
-    need_kinds(kinds)
     seeds = need_beginning(kinds, beginning)
     return is_sown(seeds, need_stand(kinds, stand))
 
 
 def sowing(kinds, beginning, stand):
     """Tell a dict from each path of stand to a seed's path, None if there is none."""
-    need_kinds(kinds)
     seeds = need_beginning(kinds, beginning)
     places, _ = sown(seeds, need_stand(kinds, stand))
     return None if places is None else placed_paths(places, (), ())
@@ -76,7 +74,6 @@ def sowing(kinds, beginning, stand):
 
 def sowing_fault(kinds, beginning, stand, thing):
     """Tell (why, path) of the first thing that is wrong in any object, None for a sowing."""
-    need_kinds(kinds)
     seeds = need_beginning(kinds, beginning)
     told = need_stand(kinds, stand)
     paths = paths_in(told)
@@ -108,14 +105,12 @@ def _goes_right(seeds, heap, thing, path):
 
 def lack(kinds, beginning, stand):
     """Tell what lacks of stand in beginning, None if stand lies in it."""
-    need_kinds(kinds)
     seeds = need_beginning(kinds, beginning)
     return sown(seeds, need_stand(kinds, stand))[1]
 
 
 def lack_fault(kinds, beginning, stand, thing):
     """Tell ("form", path) of the first thing that is wrong in any object, None for a lack."""
-    need_kinds(kinds)
     seeds = need_beginning(kinds, beginning)
     return _lack_fault_at(seeds, need_stand(kinds, stand), thing, ())
 

@@ -9,7 +9,8 @@ from anywithin.words import is_list
 
 
 def need_stands(kinds, stands):
-    """Tell the told forms of a list of stands, or refuse it."""
+    """Tell the told forms of a list of stands, or refuse kinds or list."""
+    need_kinds(kinds)
     if not is_list(stands):
         raise BadStands(0)
     for index, stand in enumerate(stands):
@@ -20,7 +21,6 @@ def need_stands(kinds, stands):
 
 def least_ones(kinds, stands):
     """Tell those of the stands in which no other one lies, told, ascending, each once."""
-    need_kinds(kinds)
     return least_told(need_stands(kinds, stands))
 
 
@@ -36,7 +36,6 @@ def least_told(heaps):
 
 def is_above(kinds, stands, stand):
     """Tell whether one of stands lies in stand."""
-    need_kinds(kinds)
     told = need_stands(kinds, stands)
     return is_above_told(told, need_stand(kinds, stand))
 

@@ -1,14 +1,12 @@
 """The least stands in which two stands both lie."""
 
 from anywithin.fitting import are_same
-from anywithin.kinds import need_kinds
 from anywithin.least import least_told
 from anywithin.stands import need_mate_stand, need_stand
 
 
 def overlays(kinds, stand, mate):
     """Tell the least stands in which both lie, ascending."""
-    need_kinds(kinds)
     told = need_stand(kinds, stand)
     return overlays_told(told, need_mate_stand(kinds, mate))
 

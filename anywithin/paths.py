@@ -9,19 +9,16 @@ from anywithin.words import is_index, is_list, is_list_of, is_one_of
 
 def paths_of(kinds, stand):
     """Tell all paths of a stand, ascending."""
-    need_kinds(kinds)
     return paths_in(need_stand(kinds, stand))
 
 
 def record_at(kinds, stand, path):
     """Tell the record at path."""
-    need_kinds(kinds)
     return _need_record(need_stand(kinds, stand), path)
 
 
 def without_path(kinds, stand, path):
     """Tell the stand without the record at path and all that lies in it."""
-    need_kinds(kinds)
     told = need_stand(kinds, stand)
     _need_record(told, path)
     return _exchanged(told, path, [])
@@ -29,7 +26,6 @@ def without_path(kinds, stand, path):
 
 def set_mark(kinds, stand, path, mark):
     """Tell the stand with this mark at path."""
-    need_kinds(kinds)
     told = need_stand(kinds, stand)
     kind, _, parts = _need_record(told, path)
     if not is_one_of(mark, kinds.marks(kind)):
@@ -39,7 +35,6 @@ def set_mark(kinds, stand, path, mark):
 
 def put_in(kinds, stand, path, record):
     """Tell the stand with one record more directly in the one at path, or, for (), at the top."""
-    need_kinds(kinds)
     told = need_stand(kinds, stand)
     if is_list_of(path, 0):
         _need_fitting(kinds, "", record)
@@ -51,7 +46,6 @@ def put_in(kinds, stand, path, record):
 
 def moved_to(kinds, stand, path, goal):
     """Tell the stand with the record at path, and all in it, directly in the one at goal."""
-    need_kinds(kinds)
     told = need_stand(kinds, stand)
     record = _need_record(told, path)
     holder = record_or_none(told, goal)
@@ -102,7 +96,6 @@ def _exchanged(heap, path, records):
 
 def flat_rows(kinds, stand):
     """Tell (kind, mark, holder) for each path, holder the index of the row of what it lies in."""
-    need_kinds(kinds)
     return rows_of(need_stand(kinds, stand))
 
 

@@ -2,7 +2,6 @@
 
 from anywithin.errors import BadLess, BadMore
 from anywithin.fitting import are_same, fits_in, fitted, placed_paths
-from anywithin.kinds import need_kinds
 from anywithin.paths import record_or_none
 from anywithin.stands import stand_index
 from anywithin.trees import paths_in, told_heap
@@ -10,8 +9,7 @@ from anywithin.words import is_path_key
 
 
 def need_less_more(kinds, less, more):
-    """Tell the told forms of less and more, or refuse the first that is no stand."""
-    need_kinds(kinds)
+    """Tell the told forms of less and more, or refuse the first of the three that is wrong."""
     index = stand_index(kinds, less)
     if index is not None:
         raise BadLess(index)

@@ -3,7 +3,6 @@
 from anywithin.beginnings import need_beginning, seed_index, told_seeds
 from anywithin.errors import BadMate, BadNumber
 from anywithin.fitting import are_same
-from anywithin.kinds import need_kinds
 from anywithin.matching import matched
 from anywithin.sowings import is_sown
 from anywithin.stands import need_stand
@@ -21,7 +20,6 @@ def need_mate_beginning(kinds, mate):
 
 def sprouted(kinds, beginning, number):
     """Tell the stand that has one record for each seed, so many for each with many."""
-    need_kinds(kinds)
     seeds = need_beginning(kinds, beginning)
     if not is_number(number):
         raise BadNumber(number)
@@ -38,7 +36,6 @@ def _sprouted(seeds, number):
 
 def is_within(kinds, beginning, mate):
     """Tell whether each stand that lies in beginning lies in mate."""
-    need_kinds(kinds)
     seeds = need_beginning(kinds, beginning)
     return _are_within(seeds, need_mate_beginning(kinds, mate))
 
@@ -58,7 +55,6 @@ def _are_within(seeds, mates):
 
 def stand_outside(kinds, beginning, mate):
     """Tell a least stand that lies in beginning and not in mate, None if there is none."""
-    need_kinds(kinds)
     seeds = need_beginning(kinds, beginning)
     mates = need_mate_beginning(kinds, mate)
     if _are_within(seeds, mates):
@@ -85,7 +81,6 @@ def _thinned_outside(heap, mates):
 
 def seeds_of(kinds, stand):
     """Tell the beginning in which just those stands lie that lie in stand."""
-    need_kinds(kinds)
     return told_seeds(_seeds_for(need_stand(kinds, stand)))
 
 
@@ -95,6 +90,5 @@ def _seeds_for(heap):
 
 def more_seeds(kinds, beginning, mate):
     """Tell the beginning with all seeds of both."""
-    need_kinds(kinds)
     seeds = need_beginning(kinds, beginning)
     return told_seeds([*seeds, *need_mate_beginning(kinds, mate)])

@@ -1,7 +1,7 @@
 """Records and stands: what they are, and their told form."""
 
 from anywithin.errors import BadMate, BadStand
-from anywithin.kinds import kinds_called, need_kinds, need_names
+from anywithin.kinds import need_kinds, need_names
 from anywithin.trees import heap_size, told_heap
 from anywithin.words import is_list, is_list_of, is_one_of
 
@@ -54,7 +54,7 @@ def _record_fault(kinds, above, thing, way):
 
 
 def stand_index(kinds, thing):
-    """Tell the index of the first wrong top of any object, 0 for no list, None for a stand."""
+    """Tell the index of the first wrong top of any object, 0 for no list, None for a stand; refuse kinds."""
     fault = stand_fault(kinds, thing)
     if fault is None:
         return None
@@ -62,7 +62,7 @@ def stand_index(kinds, thing):
 
 
 def need_stand(kinds, stand):
-    """Tell the told form of stand, or refuse it."""
+    """Tell the told form of stand, or refuse kinds or stand."""
     index = stand_index(kinds, stand)
     if index is not None:
         raise BadStand(index)
@@ -70,7 +70,7 @@ def need_stand(kinds, stand):
 
 
 def need_mate_stand(kinds, mate):
-    """Tell the told form of the other stand, or refuse it."""
+    """Tell the told form of the other stand, or refuse kinds or stand."""
     index = stand_index(kinds, mate)
     if index is not None:
         raise BadMate(index)
@@ -79,29 +79,25 @@ def need_mate_stand(kinds, mate):
 
 def told_stand(kinds, stand):
     """Tell the told form: tuples throughout, ascending at each level."""
-    need_kinds(kinds)
     return need_stand(kinds, stand)
 
 
 def are_alike(kinds, stand, mate):
     """Tell whether two stands have the same told form."""
-    need_kinds(kinds)
     told = need_stand(kinds, stand)
     return told == need_mate_stand(kinds, mate)
 
 
 def size_of(kinds, stand):
     """Tell how many records there are, at all levels."""
-    need_kinds(kinds)
     return heap_size(need_stand(kinds, stand))
 
 
 def stand_called(kinds, stand, names):
     """Tell the told form of the stand whose kinds and marks are called as names say."""
-    need_kinds(kinds)
     told = need_stand(kinds, stand)
     need_names(kinds, names)
-    return told_stand(kinds_called(kinds, names), _heap_called(told, names))
+    return told_heap(_heap_called(told, names))
 
 
 def _heap_called(heap, names):

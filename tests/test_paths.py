@@ -13,7 +13,8 @@ from tests.helpers import (
 STAND = [("shop", "open", [("order", "paid", []), ("order", "new", [("line", "ok", [])])])]
 TWO = [("shop", "shut", []), ("shop", "open", [("order", "paid", [("line", "ok", [])]), ("order", "new", [])])]
 N, P, LINE = ("order", "new", ()), ("order", "paid", ()), ("line", "ok", ())
-BAD_PATHS = (None, 5, "", "0", (), [], (1,), (0, 2), (0, 1, 0), (0, 0, 0, 0), (-1,), (True,), (False,), (0, True), (0.0,),
+BAD_PATHS = (None, 5, "", "0", (), [], (1,), (0, 2), (0, 1, 0), (0, 0, 0, 0), (-1,), (True,), (False,), (0, True),
+    (0.0,),
              ((0,),), ("0",), {0: 0}, (GREAT,), [None], [Sour()], Sour(), range(1))
 
 
@@ -69,7 +70,8 @@ class Paths(Case):
         self.assertEqual(put_in(kinds=KINDS, stand=TWO, path=[0, 0], record=["line", "ok", []]), (
             ("shop", "open", (("order", "new", (LINE,)), ("order", "paid", (LINE,)))), ("shop", "shut", ())))
         for path, record in (((), N), ((), None), ((), "abc"), ((0,), LINE), ((0,), ("shop", "open", [])),
-                             ((0, 0), N), ((0, 0, 0), LINE), ((), ("shop", "open", [LINE])), ((0,), ("order", "ok", [])),
+                             ((0, 0), N), ((0, 0, 0), LINE), ((), ("shop", "open", [LINE])), ((0,), ("order", "ok",
+                             [])),
                              ((0,), ("order", "new", None)), ((0,), [])):
             self.raised(BadRecord, record, put_in, KINDS, STAND, path, record)
 
@@ -88,7 +90,7 @@ class Paths(Case):
 
     def test_moved_to_in_many_shapes(self):
         chance = chance_of(3)
-        for number in range(60):
+        for _ in range(60):
             stand = told(random_stand(chance, WIDE, 10))
             for path in paths(stand):
                 for goal in paths(stand):
@@ -149,7 +151,7 @@ class Rows(Case):
             rows = flat_rows(WIDE, shuffled(chance, stand))
             self.assertEqual(len(rows), size(stand))
             self.assertEqual([row[:2] for row in rows], [at(told(stand), path)[:2] for path in paths(told(stand))])
-            for index, (kind, mark, holder) in enumerate(rows):
+            for index, (kind, _, holder) in enumerate(rows):
                 self.assertTrue(holder is None if WIDE.above(kind) == "" else 0 <= holder < index)
             self.assertEqual(stand_of_flat(WIDE, rows), told(stand))
             self.assertEqual(stand_of_flat(kinds=WIDE, flat=as_tuples(rows)), told(stand))
