@@ -67,7 +67,7 @@ def _inner_of(rows):
 
 
 def _placed(inner, rows, holder):
-    """Tell, for each record that lies in holder, its told form and all its numbers, ascending."""
+    """Tell, ascending, the told form of each record that lies in holder, and the numbers of it and all in it."""
     found = []
     for number in inner[holder]:
         within = _placed(inner, rows, number)

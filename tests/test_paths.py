@@ -13,9 +13,10 @@ from tests.helpers import (
 STAND = [("shop", "open", [("order", "paid", []), ("order", "new", [("line", "ok", [])])])]
 TWO = [("shop", "shut", []), ("shop", "open", [("order", "paid", [("line", "ok", [])]), ("order", "new", [])])]
 N, P, LINE = ("order", "new", ()), ("order", "paid", ()), ("line", "ok", ())
-BAD_PATHS = (None, 5, "", "0", (), [], (1,), (0, 2), (0, 1, 0), (0, 0, 0, 0), (-1,), (True,), (False,), (0, True),
-    (0.0,),
-             ((0,),), ("0",), {0: 0}, (GREAT,), [None], [Sour()], Sour(), range(1))
+BAD_PATHS = (
+    None, 5, "", "0", (), [], (1,), (0, 2), (0, 1, 0), (0, 0, 0, 0), (-1,), (True,), (False,), (0, True), (0.0,),
+    ((0,),), ("0",), {0: 0}, (GREAT,), [None], [Sour()], Sour(), range(1),
+)
 
 
 class Paths(Case):
