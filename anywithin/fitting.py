@@ -48,6 +48,8 @@ def placed_paths(places, way, goal):
     """Tell the dict of paths, ascending, that such places say; way and goal lead to their heaps."""
     paths = {}
     for index, (at, inner) in enumerate(places):
-        paths[(*way, index)] = (*goal, at)
-        paths.update(placed_paths(inner, (*way, index), (*goal, at)))
+        path = (*way, index)
+        place = (*goal, at)
+        paths[path] = place
+        paths.update(placed_paths(inner, path, place))
     return paths

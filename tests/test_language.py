@@ -96,6 +96,13 @@ class Language(unittest.TestCase):
                 if isinstance(node, ast.FunctionDef):
                     self.assertEqual(node.decorator_list, [], name)
 
+    def test_no_star_in_an_index(self):
+        for name, tree in self.trees.items():
+            for node in ast.walk(tree):
+                if isinstance(node, ast.Subscript):
+                    stars = [part for part in ast.walk(node.slice) if isinstance(part, ast.Starred)]
+                    self.assertEqual(stars, [], (name, node.lineno))
+
     def catches_own(self, node):
         """Whether a try catches nothing but the package's own errors."""
         own = {part.name for part in self.trees["errors"].body if isinstance(part, ast.ClassDef)}
