@@ -26,12 +26,17 @@ def least_ones(kinds, stands):
 
 def least_told(heaps):
     """Tell the least of some told stands, ascending."""
-    found = []
+    found, beside = [], []
+    reached = 0
     # What lies in another one and is not alike to it is smaller, so smaller ones go first.
-    for _, heap in sorted([(heap_size(heap), heap) for heap in heaps]):
-        if not is_above_told(found, heap):
-            found.append(heap)
-    return sorted(found)
+    for many, heap in sorted([(heap_size(heap), heap) for heap in heaps]):
+        if many > reached:
+            found.extend(beside)
+            beside = []
+            reached = many
+        if (not beside or beside[-1] != heap) and not is_above_told(found, heap):
+            beside.append(heap)
+    return sorted([*found, *beside])
 
 
 def is_above(kinds, stands, stand):

@@ -2,12 +2,13 @@
 
 from anywithin.beginnings import need_beginning
 from anywithin.errors import Asked, BadAsked, BadName, BadNumbers, BadPlay, Lasts, NoRecord, NotThere, Twice
-from anywithin.fitting import fits_in, fitted, placed_paths
+from anywithin.fitting import fits_in
 from anywithin.grounds import Ground
 from anywithin.plans import need_plan
 from anywithin.sowings import is_sown
+from anywithin.standing import standing
 from anywithin.stands import stand_index
-from anywithin.trees import paths_in, told_heap
+from anywithin.trees import told_heap
 from anywithin.words import is_list, is_list_of, is_number
 
 
@@ -25,14 +26,14 @@ def play_fault(plan, beginning, thing):
         return ("begins", 0)
     ground = Ground(plan, first)
     for at, step in enumerate(steps):
-        why = _step_fault(ground, step)
+        why = step_fault(ground, step)
         if why is not None:
             return (why, at)
     return None
 
 
-def _step_fault(ground, step):
-    """Do the next step; tell None, or the word for why it is none."""
+def step_fault(ground, step):
+    """Do the next step, any object, on a ground; tell None, or the word for why it is none there."""
     if not is_step_form(step):
         return "step"
     try:
@@ -158,12 +159,4 @@ def is_bringing(plan, beginning, asked, thing):
 def stood(plan, beginning, asked, play):
     """Tell a dict from each path of asked to the number of a record at the end, None if there is none."""
     told = need_asked(plan, beginning, asked)
-    ground = played(plan, beginning, play)
-    end = ground.stand()
-    places, _ = fitted(told, end)
-    if places is None:
-        return None
-    numbers = ground.in_order()
-    numbered = {path: numbers[index] for index, path in enumerate(paths_in(end))}
-    paths = placed_paths(places, (), ())
-    return {path: numbered[paths[path]] for path in paths}
+    return standing(told, played(plan, beginning, play))
