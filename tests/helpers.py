@@ -248,6 +248,26 @@ def mutables(thing):
     return found
 
 
+# What is refused as a plan, a beginning, a stand; the last of three ways with the index that the error keeps.
+NO_PLANS = [None, 5, "plan", [], KINDS, Sour()]
+NO_BEGINNINGS = [(None, 0), ("x", 0), ([("nix", "a", [], True)], 0), ([None, 5], 0), (5, 0), (Sour(), 0)]
+NO_STANDS = [(None, 0), ("", 0), ({}, 0), ([5], 0), ([("nix", "a", [])], 0), (5, 0), (Sour(), 0), ([Sour()], 0)]
+
+
+def no_plans(error, name="plan"):
+    return [(name, thing, error, thing) for thing in NO_PLANS]
+
+
+def no_beginnings(error, name="beginning"):
+    return [(name, thing, error, index) for thing, index in NO_BEGINNINGS]
+
+
+def no_stands(error, name, good=()):
+    """Wrong stands, some behind the records of a good one."""
+    found = [(name, thing, error, index) for thing, index in NO_STANDS]
+    return [*found, (name, [*good, None], error, len(good)), (name, (*good, *good, ("x", "y")), error, 2 * len(good))]
+
+
 class Case(unittest.TestCase):
     """What most tests need."""
 
@@ -281,6 +301,29 @@ class Case(unittest.TestCase):
             part.clear()
         self.assertTrue(args == before)
         self.assertEqual(call(*args), wanted)
+
+    def refuses(self, call, good, bad):
+        """Each wrong argument is refused, of two the first one by the order of good.
+
+        good is a dict of arguments by name; bad a list of (name, wrong thing, error, what the error keeps).
+        """
+        call(**good)
+        call(*good.values())
+        order = list(good)
+        for name, thing, error, keeps in bad:
+            self.raised(error, keeps, call, **{**good, name: thing})
+            self.raised(error, keeps, call, *{**good, name: thing}.values())
+            for later, other, _, _ in bad:
+                if order.index(name) < order.index(later):
+                    self.raised(error, keeps, call, **{**good, later: other, name: thing})
+
+    def same_in_all_forms(self, call, *args):
+        """The call tells the same of lists, of tuples, again, and by stands in any order where these are named."""
+        wanted = call(*args)
+        self.assertEqual(call(*[as_lists(arg) for arg in args]), wanted)
+        self.assertEqual(call(*[as_tuples(arg) for arg in args]), wanted)
+        self.assertEqual(call(*args), wanted)
+        return wanted
 
     def keys_rise(self, thing):
         """The keys of a dict stand there ascending."""

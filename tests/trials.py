@@ -125,3 +125,50 @@ def plain_fewer(kinds, heap):
 
 def plain_above(heaps, heap):
     return any(plain_lies(less, heap) for less in heaps)
+
+
+def seeds_for(heap, many=False):
+    """The beginning in which just what lies in a told stand lies, or any number of each."""
+    return [(kind, mark, seeds_for(parts, many), many) for kind, mark, parts in heap]
+
+
+def random_play(chance, plan, first, steps, deletes=0.2):
+    """A play of at most so many steps from first, in lists."""
+    ground = Ground(plan, first)
+    found = []
+    for _ in range(steps):
+        step = random_step(chance, plan, ground, deletes)
+        if step is not None:
+            found.append(step)
+    return (first, found)
+
+
+def random_step(chance, plan, ground, deletes):
+    """A step that was done on the ground, None if none was found."""
+    here = ground.numbers()
+    if here and chance.random() < deletes:
+        number = chance.choice(here)
+        if not plan.kinds().lasts(ground.record(number)[0]):
+            ground.delete(number)
+            return ("delete", number)
+    for _ in range(10):
+        deed = chance.choice(plan.all_deeds())
+        numbers = random_numbers(chance, deed, ground)
+        try:
+            ground.do(deed[0], numbers)
+        except ValueError:
+            continue
+        return ("do", deed[0], numbers)
+    return None
+
+
+def random_numbers(chance, deed, ground):
+    """Numbers that often fit, None in the place of those that don't."""
+    numbers = []
+    for kind, lies, turn in deed[1]:
+        above = None if lies is None else numbers[lies]
+        fitting = [number for number in ground.numbers() if number not in numbers
+                   and ground.record(number)[0] == kind and ground.record(number)[1] in turn
+                   and ground.record(number)[2] == above]
+        numbers.append(chance.choice(fitting) if fitting else None)
+    return numbers
