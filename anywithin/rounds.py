@@ -24,7 +24,8 @@ def round_of(plan, asked, many):
 
 def rounds(plan, asked):
     """Tell all rounds, up to the first one that equals the next one."""
-    return Leading(backs_of(plan), [_need_plan_asked(plan, asked)]).rounds()
+    told = _need_plan_asked(plan, asked)
+    return Leading(backs_of(plan), [told]).rounds()
 
 
 def least_leading(plan, asked):
@@ -43,11 +44,12 @@ def _need_plan_asked(plan, asked):
 
 def soonest(plan, asked, stand):
     """Tell by how few deeds what is asked comes from stand, None if it never does."""
-    leading = Leading(backs_of(plan), [_need_plan_asked(plan, asked)])
-    told = need_stand(plan.kinds(), stand)
+    told = _need_plan_asked(plan, asked)
+    there = need_stand(plan.kinds(), stand)
+    leading = Leading(backs_of(plan), [told])
     many = 0
     heaps = leading.round_at(many)
-    while heaps is not None and not is_above_told(heaps, told):
+    while heaps is not None and not is_above_told(heaps, there):
         many += 1
         heaps = leading.round_at(many)
     return None if heaps is None else many

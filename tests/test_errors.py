@@ -4,7 +4,7 @@ import importlib
 import inspect
 import unittest
 
-from anywithin import errors
+from anywithin import errors, refusals
 from tests.helpers import GREAT, Sour
 
 ERRORS = """
@@ -15,6 +15,15 @@ BadIndex(index), BadAsk(ask), BadNumber(number), NoRecord(number), Lasts(number)
 Twice(number), NotThere(index), Asked(index), BadPlace(place), BadBeginning(index), BadPlay(play),
 BadAsked(index), BadSteps(index), NotBrought(asked), BadFirst(index), NotMore(first), BadLater(later),
 NotLocal(name)
+"""
+
+REFUSALS = """
+BadWalls(index), BadWall(wall), BadPatterns(index), BadOtherAsked(index), BadHolder(holder), BadPart(part),
+BadLimit(limit), BadOne(one), BadHow(how), NotKept(asked), BadMenu(index), BadLot(lot), BadLots(index),
+BadPrices(prices), BadWatcher(watcher), NotBare(kind), BadTop(top), BadNewer(newer), Clash(name), BadBed(bed),
+BadCover(cover), BadBeds(index), BadDeed(deed), IsThere(name), LetsIn(asked), IsKept(asked),
+BadKindsText(line,sign), BadStandText(line,sign), BadStandsText(line,sign), BadBeginningText(line,sign),
+BadPlanText(line,sign), BadPlayText(line,sign)
 """
 
 INTERFACE = {
@@ -42,6 +51,21 @@ INTERFACE = {
              "played(plan,beginning,play) ends(plan,beginning,play) stands_of(plan,beginning,play) "
              "news_of(plan,beginning,play) deeds_of(plan,beginning,play) brings(plan,beginning,asked,play) "
              "is_bringing(plan,beginning,asked,thing) stood(plan,beginning,asked,play)",
+    "lives": "life_of(plan,beginning,play,number) named_at(plan,beginning,play,number) "
+             "play_behind(plan,beginning,play,steps) play_ahead(plan,beginning,play,many)",
+    "leftout": "left_out(plan,beginning,play,index) thinned(plan,beginning,asked,play) "
+               "without_deletions(plan,beginning,play) deletions_needed(plan,beginning,asked,play)",
+    "frommore": "from_more(plan,beginning,play,first) is_local(plan,name) both_played(plan,beginning,play,later)",
+    "before": "leads(plan,name,first,stand) numbers_to(plan,name,first,stand) least_before(plan,name,stand) "
+              "before_all(plan,stand) before_fault(plan,name,stand,thing)",
+    "walls": "wall_fault(plan,beginning,asked,thing) is_barrier(plan,beginning,asked,thing) walls_laid(plan,walls) "
+             "needless(plan,beginning,asked,wall) wall_thinned(plan,beginning,asked,wall) "
+             "walls_hold(plan,beginning,asked,wall,other)",
+    "verdicts": "verdict(plan,beginning,asked) judged(plan,beginning,asked,thing) "
+                "verdicts(plan,beginning,patterns) settled(plan,beginning,patterns)",
+    "rounds": "round_of(plan,asked,many) rounds(plan,asked) least_leading(plan,asked) soonest(plan,asked,stand) "
+              "fewest_deeds(plan,beginning,asked) shortest_play(plan,beginning,asked) "
+              "rounds_fault(plan,asked,thing) same_leading(plan,asked,other_asked) leads_too(plan,asked,other_asked)",
 }
 
 METHODS = {
@@ -62,12 +86,18 @@ def split(call):
 class Errors(unittest.TestCase):
 
     def classes(self):
-        for word in ERRORS.replace("\n", " ").replace("), ", ") ").split():
-            name, names = split(word)
-            yield getattr(errors, name), names[0]
+        """All error classes, each with the names of its parameters."""
+        for module, words in ((errors, ERRORS), (refusals, REFUSALS)):
+            for word in words.replace("\n", " ").replace("), ", ") ").split():
+                name, names = split(word)
+                yield getattr(module, name), names
 
     def test_there_are_so_many(self):
-        self.assertEqual(len(list(self.classes())), 39)
+        self.assertEqual(len(list(self.classes())), 39 + 32)
+        for module, many in ((errors, 40), (refusals, 32)):
+            own = [thing for thing in vars(module).values()
+                   if inspect.isclass(thing) and thing.__module__ == module.__name__]
+            self.assertEqual(len(own), many)
 
     def test_within_error(self):
         self.assertEqual(errors.WithinError.__bases__, (ValueError,))
@@ -77,27 +107,30 @@ class Errors(unittest.TestCase):
     def test_each_lies_right_beneath(self):
         for error, _ in self.classes():
             self.assertEqual(error.__bases__, (errors.WithinError,))
-            self.assertEqual(error.__module__, "anywithin.errors")
+            self.assertIn(error.__module__, ("anywithin.errors", "anywithin.refusals"))
 
     def test_each_keeps_the_very_object(self):
-        for error, name in self.classes():
+        for error, names in self.classes():
+            self.assertEqual(list(inspect.signature(error).parameters), names)
             for thing in (3, GREAT, None, True, [], {}, "x", object(), Sour()):
-                self.assertIs(vars(error(thing))[name], thing)
-                self.assertIs(getattr(error(**{name: thing}), name), thing)
-                self.assertEqual(len(vars(error(thing))), 1)
+                things = [thing, object()][:len(names)]
+                for caught in (error(*things), error(**dict(zip(names, things)))):
+                    self.assertEqual(list(vars(caught)), names)
+                    for name, one in zip(names, things):
+                        self.assertIs(getattr(caught, name), one)
             self.assertRaises(TypeError, error)
-            self.assertRaises(TypeError, error, 1, 2)
+            self.assertRaises(TypeError, error, 1, 2, 3)
 
     def test_each_can_be_shown_whatever_it_keeps(self):
-        for error, _ in self.classes():
+        for error, names in self.classes():
             for thing in (GREAT, Sour()):
-                self.assertIsInstance(str(error(thing)), str)
-                self.assertIsInstance(repr(error(thing)), str)
+                self.assertIsInstance(str(error(*[thing] * len(names))), str)
+                self.assertIsInstance(repr(error(*[thing] * len(names))), str)
 
     def test_each_is_caught_as_a_value_error(self):
-        for error, _ in self.classes():
+        for error, names in self.classes():
             with self.assertRaises(ValueError):
-                raise error(1)
+                raise error(*names)
 
 
 class Interface(unittest.TestCase):

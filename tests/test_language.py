@@ -105,5 +105,6 @@ class Language(unittest.TestCase):
 
     def catches_own(self, node):
         """Whether a try catches nothing but the package's own errors."""
-        own = {part.name for part in self.trees["errors"].body if isinstance(part, ast.ClassDef)}
+        own = {part.name for name in ("errors", "refusals") for part in self.trees[name].body
+               if isinstance(part, ast.ClassDef)}
         return all(isinstance(one.type, ast.Name) and one.type.id in own for one in node.handlers)

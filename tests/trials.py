@@ -5,7 +5,8 @@ import itertools
 from anywithin.grounds import Ground
 from anywithin.kinds import Kinds
 from anywithin.plans import Plan
-from tests.helpers import cut, paths, plain_lies
+from anywithin.rounds import round_of
+from tests.helpers import cut, paths, plain_lies, size
 
 # Two levels, and three; some of them last.
 TWO = Kinds([("box", "", ["a", "b"], False), ("egg", "box", ["x", "y"], False)])
@@ -13,6 +14,14 @@ BESIDE = Kinds([("box", "", ["a"], True), ("egg", "box", ["x", "y"], False), ("f
 THREE = Kinds([("box", "", ["a", "b"], False), ("cup", "box", ["c"], False), ("egg", "cup", ["x", "y"], False)])
 TOPS = Kinds([("box", "", ["a", "b"], False), ("egg", "box", ["x"], False), ("van", "", ["v"], True)])
 SOME_KINDS = [TWO, BESIDE, THREE, TOPS]
+
+# As great as [2.3] lets them be.
+BIG_KINDS = [
+    Kinds([("ka", "", ["a", "b", "c"], False), ("kb", "ka", ["a", "b", "c"], False), ("kc", "kb", ["a", "b", "c"], False),
+           ("kd", "ka", ["a", "b", "c"], False), ("ke", "", ["a", "b", "c"], True)]),
+    Kinds([("ka", "", ["a", "b", "c"], False), ("kb", "ka", ["a", "b", "c"], False), ("kc", "kb", ["a", "b", "c"], False),
+           ("kd", "kb", ["a", "b", "c"], False), ("ke", "ka", ["a", "b", "c"], False)]),
+]
 
 
 def random_turn(chance, kinds, kind, goes=0.2):
@@ -172,3 +181,34 @@ def random_numbers(chance, deed, ground):
                    and ground.record(number)[2] == above]
         numbers.append(chance.choice(fitting) if fitting else None)
     return numbers
+
+
+def leading_within(plan, asked, many=12, records=6):
+    """The rounds of asked, None if they are not within the limits of [2.3]."""
+    found = [round_of(plan, asked, 0)]
+    while len(found) < 8:
+        if len(found[-1]) > many or any(size(heap) > records for heap in found[-1]):
+            return None
+        then = round_of(plan, asked, len(found))
+        if then == found[-1]:
+            return found
+        found.append(then)
+    return None
+
+
+def plain_depths(plan, stand, records):
+    """By how few deeds, with any deletions, each stand of at most so many records comes from stand, going forward."""
+    depths = {}
+    there, depth = [stand], 0
+    while there:
+        fresh = []
+        while there:
+            heap = there.pop()
+            if heap not in depths:
+                depths[heap] = depth
+                fresh.append(heap)
+                there.extend(plain_fewer(plan.kinds(), heap))
+        ends = {end for heap in fresh for one in plan.all_deeds() for _, end in plain_led(plan, one[0], heap)}
+        there = [end for end in ends if size(end) <= records and end not in depths]
+        depth += 1
+    return depths
