@@ -15,12 +15,16 @@ def fits_in(less, more):
     if less == more:
         return True
     reach = []
-    for record in less:
-        found = [at for at, other in enumerate(more) if are_same(record, other) and fits_in(record[2], other[2])]
+    for kind, mark, parts in less:
+        # This is asked more often than all else, so no other function is called for what has no parts.
+        found = [
+            at for at, (there, other, inner) in enumerate(more)
+            if kind == there and mark == other and (not parts or fits_in(parts, inner))
+        ]
         if not found:
             return False
         reach.append(found)
-    return matched(reach)[0] is not None
+    return len(less) == 1 or matched(reach)[0] is not None
 
 
 def fitted(less, more):

@@ -50,9 +50,26 @@ class Leading:
         return self._ways.get(repr(heap))
 
 
+class Backs:
+    """Deeds of the same kinds read backwards, each but once, so that what was worked out of it serves other plans."""
+
+    def __init__(self):
+        self._kept = {}
+
+    def of_plan(self, plan):
+        """Tell the deeds of plan, read backwards, names ascending."""
+        found = []
+        for deed in plan.all_deeds():
+            key = repr(deed)
+            if key not in self._kept:
+                self._kept[key] = Back(plan.kinds(), deed)
+            found.append(self._kept[key])
+        return found
+
+
 def backs_of(plan):
-    """Tell the deeds of plan, read backwards, names ascending."""
-    return [Back(plan.kinds(), deed) for deed in plan.all_deeds()]
+    """Tell the deeds of one plan, read backwards, names ascending."""
+    return Backs().of_plan(plan)
 
 
 def first_beginning(leading, seeds):
@@ -82,6 +99,11 @@ def play_from(plan, leading, heap):
         at = way[1]
         way = leading.way(at)
     return (heap, steps)
+
+
+def comes(backs, seeds, heaps):
+    """Tell whether one of some told stands can come from told seeds by these deeds."""
+    return first_beginning(Leading(backs, heaps), seeds) is not None
 
 
 def verdict_of(plan, backs, seeds, heaps):

@@ -78,15 +78,20 @@ def _asks_more(deed, other):
 def without_deeds(plan, names):
     """Tell the plan without the deeds of these names."""
     need_plan(plan)
+    need_name_list(plan, names)
+    return Plan(plan.kinds(), [deed for deed in plan.all_deeds() if deed[0] not in names])
+
+
+def need_name_list(plan, names):
+    """Refuse what is no list of unlike names of the plan's deeds."""
     known = [deed[0] for deed in plan.all_deeds()]
     if not is_list(names):
         raise BadNameList(0)
-    left_out = {}
+    seen = {}
     for index, name in enumerate(names):
-        if not is_one_of(name, known) or name in left_out:
+        if not is_one_of(name, known) or name in seen:
             raise BadNameList(index)
-        left_out[name] = True
-    return Plan(plan.kinds(), [deed for deed in plan.all_deeds() if deed[0] not in left_out])
+        seen[name] = True
 
 
 def without_ask(plan, name, index):

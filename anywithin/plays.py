@@ -14,8 +14,7 @@ from anywithin.words import is_list, is_list_of, is_number
 
 def play_fault(plan, beginning, thing):
     """Tell (why, index) of the first thing that is wrong in any object, None for a play."""
-    need_plan(plan)
-    seeds = need_beginning(plan.kinds(), beginning)
+    seeds = need_seeds(plan, beginning)
     if not is_list_of(thing, 2) or not is_list(thing[0]) or not is_list(thing[1]):
         return ("form", 0)
     first, steps = thing
@@ -134,10 +133,15 @@ def deeds_of(plan, beginning, play):
     return [step[1] for step in need_play(plan, beginning, play)[1] if step[0] == "do"]
 
 
+def need_seeds(plan, beginning):
+    """Tell the told form of beginning, or refuse plan or beginning."""
+    need_plan(plan)
+    return need_beginning(plan.kinds(), beginning)
+
+
 def need_asked(plan, beginning, asked):
     """Tell the told form of asked, or refuse the first of the three that is wrong."""
-    need_plan(plan)
-    need_beginning(plan.kinds(), beginning)
+    need_seeds(plan, beginning)
     index = stand_index(plan.kinds(), asked)
     if index is not None:
         raise BadAsked(index)

@@ -1,11 +1,10 @@
 """Rounds: the least stands from which what is asked can come by so many deeds, and by how few."""
 
-from anywithin.beginnings import need_beginning
 from anywithin.errors import BadAsked, BadMany
 from anywithin.leading import Leading, backs_of, first_beginning, play_from
 from anywithin.least import is_above_told
 from anywithin.plans import need_plan
-from anywithin.plays import need_asked
+from anywithin.plays import need_asked, need_seeds
 from anywithin.refusals import BadOtherAsked
 from anywithin.stands import is_stand, need_stand, stand_index
 from anywithin.trees import told_heap
@@ -58,7 +57,7 @@ def soonest(plan, asked, stand):
 def fewest_deeds(plan, beginning, asked):
     """Tell by how few deeds what is asked comes from beginning, None if it never does."""
     told = need_asked(plan, beginning, asked)
-    seeds = need_beginning(plan.kinds(), beginning)
+    seeds = need_seeds(plan, beginning)
     found = first_beginning(Leading(backs_of(plan), [told]), seeds)
     return None if found is None else found[0]
 
@@ -66,7 +65,7 @@ def fewest_deeds(plan, beginning, asked):
 def shortest_play(plan, beginning, asked):
     """Tell a play with the fewest deeds that brings what is asked, None if it never comes."""
     told = need_asked(plan, beginning, asked)
-    seeds = need_beginning(plan.kinds(), beginning)
+    seeds = need_seeds(plan, beginning)
     leading = Leading(backs_of(plan), [told])
     found = first_beginning(leading, seeds)
     return None if found is None else play_from(plan, leading, found[1])

@@ -1,10 +1,8 @@
 """The verdict: a play that brings what is asked, or a wall."""
 
-from anywithin.beginnings import need_beginning
 from anywithin.leading import backs_of, verdict_of
 from anywithin.least import least_told
-from anywithin.plans import need_plan
-from anywithin.plays import is_bringing, need_asked
+from anywithin.plays import is_bringing, need_asked, need_seeds
 from anywithin.refusals import BadPatterns
 from anywithin.stands import is_stand
 from anywithin.trees import told_heap
@@ -15,7 +13,7 @@ from anywithin.words import is_list, is_list_of, is_one_of
 def verdict(plan, beginning, asked):
     """Tell ("told", play) of a play that brings asked, or ("never", wall) of the least wall."""
     told = need_asked(plan, beginning, asked)
-    return verdict_of(plan, backs_of(plan), need_beginning(plan.kinds(), beginning), [told])
+    return verdict_of(plan, backs_of(plan), need_seeds(plan, beginning), [told])
 
 
 def judged(plan, beginning, asked, thing):
@@ -31,7 +29,7 @@ def judged(plan, beginning, asked, thing):
 
 def verdicts(plan, beginning, patterns):
     """Tell the verdict for each of these patterns."""
-    seeds = _need_seeds(plan, beginning)
+    seeds = need_seeds(plan, beginning)
     heaps = _need_patterns(plan, patterns)
     backs = backs_of(plan)
     return [verdict_of(plan, backs, seeds, [heap]) for heap in heaps]
@@ -47,12 +45,6 @@ def settled(plan, beginning, patterns):
         else:
             stands.extend(shown)
     return (plays, least_told(stands))
-
-
-def _need_seeds(plan, beginning):
-    """Tell the told form of beginning, or refuse plan or beginning."""
-    need_plan(plan)
-    return need_beginning(plan.kinds(), beginning)
 
 
 def _need_patterns(plan, patterns):

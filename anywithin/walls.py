@@ -1,12 +1,11 @@
 """Walls: finite lists of stands that show that what is asked never comes."""
 
 from anywithin.barriers import barrier_fault, form_index, needed_only, needs_of, still_holds
-from anywithin.beginnings import need_beginning
 from anywithin.errors import BadOther
 from anywithin.leading import backs_of
 from anywithin.least import least_told
 from anywithin.plans import Plan, need_plan
-from anywithin.plays import need_asked
+from anywithin.plays import need_asked, need_seeds
 from anywithin.refusals import BadWall, BadWalls
 from anywithin.stands import is_stand
 from anywithin.trees import told_heap
@@ -19,7 +18,7 @@ def wall_fault(plan, beginning, asked, thing):
     index = form_index(plan.kinds(), thing)
     if index is not None:
         return ("form", index)
-    seeds = need_beginning(plan.kinds(), beginning)
+    seeds = need_seeds(plan, beginning)
     return barrier_fault(backs_of(plan), seeds, [told], [told_heap(stand) for stand in thing])
 
 
@@ -44,7 +43,7 @@ def needless(plan, beginning, asked, wall):
     told = _need_wall(plan, beginning, asked, wall)
     heaps = [told_heap(stand) for stand in wall]
     needs = needs_of(backs_of(plan), told, heaps)
-    every = range(len(heaps))
+    every = list(range(len(heaps)))
     return [index for index in every if still_holds(needs, [one for one in every if one != index])]
 
 

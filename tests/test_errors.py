@@ -66,6 +66,23 @@ INTERFACE = {
     "rounds": "round_of(plan,asked,many) rounds(plan,asked) least_leading(plan,asked) soonest(plan,asked,stand) "
               "fewest_deeds(plan,beginning,asked) shortest_play(plan,beginning,asked) "
               "rounds_fault(plan,asked,thing) same_leading(plan,asked,other_asked) leads_too(plan,asked,other_asked)",
+    "anyof": "any_verdict(plan,beginning,stands) any_judged(plan,beginning,stands,thing) "
+             "both_verdict(plan,beginning,asked,mate)",
+    "most": "crowds(kinds,holder,part,number) crowd_verdict(plan,beginning,holder,part,number) "
+            "most_of(plan,beginning,holder,part,limit)",
+    "together": "meetings(kinds,one,other,how) together(plan,beginning,one,other,how)",
+    "asks": "asks_of(plan) ask_verdict(plan,beginning,asked,name,index) needed_asks(plan,beginning,asked) "
+            "without_idle(plan,beginning,asked)",
+    "guards": "guarded(plan,menu,lot) guard_verdict(plan,beginning,asked,menu,lot) "
+              "least_guards(plan,beginning,asked,menu) is_least_guard(plan,beginning,asked,menu,thing) "
+              "least_openings(plan,beginning,asked,menu) guards_fault(plan,beginning,asked,menu,thing)",
+    "lots": "lot_verdict(plan,beginning,asked,lot) bringing_lots(plan,beginning,asked) "
+            "barring_lots(plan,beginning,asked) is_bringing_lot(plan,beginning,asked,thing) "
+            "is_barring_lot(plan,beginning,asked,thing) lots_fault(plan,beginning,asked,thing) "
+            "needed_deeds(plan,beginning,asked) idle_deeds(plan,beginning,asked)",
+    "meeting": "least_meeting(lots)",
+    "prices": "cheapest_bar(plan,beginning,asked,prices) cheapest_way(plan,beginning,asked,prices) "
+              "barred_by(plan,beginning,asked,names)",
 }
 
 METHODS = {

@@ -1,6 +1,6 @@
 """[10.4], [10.5], [10.6]: plays from more, and beside one another."""
 
-from anywithin.errors import BadBeginning, BadFirst, BadLater, BadName, BadPlan, BadPlay, NotLocal, NotMore
+from anywithin.errors import BadBeginning, BadFirst, BadLater, BadName, BadPlan, NotLocal, NotMore
 from anywithin.frommore import both_played, from_more, is_local
 from anywithin.placings import lies_in
 from anywithin.plans import Plan

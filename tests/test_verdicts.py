@@ -14,7 +14,7 @@ from tests.helpers import (
     random_beginning, random_stand, shuffled, told,
 )
 from tests.test_before import N, P, S, SHOPS, shop, shuffled_stands
-from tests.test_walls import ASKED, OPEN, ORDER, PAY, PLAN, SEND, TOLD, WALL, shut
+from tests.test_walls import ASKED, OPEN, ORDER, PAY, PLAN, SEND, TOLD, WALL
 from tests.trials import BIG_KINDS, SOME_KINDS, leading_within, plain_depths, random_plan
 
 SENT = [("shop", "open", [("order", "sent", [])])]
