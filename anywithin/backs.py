@@ -6,7 +6,6 @@ those of who have their own indexes, those of news come behind. A state is (inde
 pairs of a source and the record of an other one that lay there).
 """
 
-from anywithin.doing import stays
 from anywithin.least import least_told
 
 TOP = -1
@@ -136,7 +135,10 @@ def _index_of(spot, who):
 
 
 def _images_of(deed, results):
-    """Tell a dict from indexes to the images that are there if who become what results say."""
+    """Tell a dict from indexes to the images that are there if who become what results say.
+
+    What goes has no mark, so no record is its image, and none comes to be looked for within it.
+    """
     who = deed[1]
     moved = {index: spot for index, spot in deed[5]}
     rows = {}
@@ -145,7 +147,7 @@ def _images_of(deed, results):
         rows[index] = (kind, results[index], holder)
     for index, (kind, mark, spot) in enumerate(deed[6]):
         rows[len(who) + index] = (kind, mark, _index_of(spot, who))
-    return {index: rows[index] for index in rows if stays(rows, index)}
+    return rows
 
 
 def _before(who, marks, others):

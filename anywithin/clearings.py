@@ -10,9 +10,8 @@ def do_cleared(ground, deed, numbers):
     steps = []
     for place, kind, marks in deed[2]:
         for number in ground.others(deed[0], numbers, place, kind):
-            record = ground.record(number)
-            # One of these may have gone with another one in which it lay.
-            if record is not None and record[1] not in marks:
+            # All of these are of one kind, so none of them goes with another one.
+            if ground.record(number)[1] not in marks:
                 ground.delete(number)
                 steps.append(("delete", number))
     ground.do(deed[0], numbers)

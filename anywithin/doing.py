@@ -42,7 +42,7 @@ def done(rows, given, deed, numbers):
     then = {number: (rows[number][0], marks[number], aboves[number]) for number in rows}
     for index, (kind, mark, spot) in enumerate(deed[6]):
         then[given + index] = (kind, mark, _number_of(spot, given, numbers))
-    return {number: then[number] for number in then if stays(then, number)}
+    return {number: then[number] for number in then if _stays(then, number)}
 
 
 def _marks_then(rows, deed, numbers):
@@ -79,7 +79,7 @@ def _number_of(spot, given, numbers):
     return numbers[index] if word == "who" else given + index
 
 
-def stays(rows, number):
+def _stays(rows, number):
     """Tell whether neither the record nor anything in which it lies goes."""
     at = number
     while at is not None:

@@ -164,7 +164,7 @@ class LeastBefore(Case):
             which = chance.randrange(len(SOME_KINDS))
             kinds = SOME_KINDS[which]
             plan = random_plan(chance, kinds, 1, asks=2, turns=2, pours=2, news=2, most=3)
-            stand = chance.choice([heap for heap in heaps[which] if size(heap) <= 2])
+            stand = chance.choice([heap for heap in heaps[which] if size(heap) <= chance.choice([2, 2, 3])])
             found = least_before(plan, "a", stand)
             good = [heap for heap in heaps[which]
                     if any(plain_lies(stand, end) for _, end in plain_led(plan, "a", heap))]
@@ -188,6 +188,20 @@ class LeastBefore(Case):
                     seen.append(one)
                     there.extend(less for less in plain_fewer(TWO, one) if less not in seen and less not in there)
                 self.assertEqual(any(leads(plan, "a", one, stand) for one in seen), plain_above(found, heap))
+
+    def test_each_is_told(self):
+        """What an other one was ahead of a turn may stand in another order."""
+        keep = [("box", None, {"a": "a"})]
+        found = back(TWO, [("box", "b", [("egg", "x", []), ("egg", "y", [])])], keep, [],
+                     [(None, "egg", {"x": "y", "y": "x"}), (None, "box", {"a": "b"})])
+        x, y = ("egg", "x", ()), ("egg", "y", ())
+        self.assertEqual(found, [(("box", "a", ()), ("box", "a", (x, y))), (("box", "a", ()), ("box", "b", (x, y)))])
+        chance = chance_of(117)
+        for _ in range(100):
+            kinds = chance.choice(SOME_KINDS)
+            plan = random_plan(chance, kinds, 1, turns=2, pours=1, most=2)
+            for heap in least_before(plan, "a", random_stand(chance, kinds, 4)):
+                self.assertEqual(heap, told(heap))
 
     def test_limits(self):
         kinds = Kinds([

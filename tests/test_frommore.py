@@ -10,7 +10,7 @@ from tests.helpers import (
     shuffled, told,
 )
 from tests.test_lives import BEGINNING, FIRST, NO_PLAYS, PLAN, PLAY, no_plays
-from tests.trials import SOME_KINDS, random_plan, random_play, seeds_for
+from tests.trials import SOME_KINDS, THREE, random_plan, random_play, seeds_for
 
 N, S = ("order", "new", []), ("order", "sent", [])
 MANY = [("shop", "open", [("order", "new", [], True)], True)]
@@ -89,6 +89,18 @@ class FromMore(Case):
         first = [("shop", "open", [N, N, N]), ("shop", "open", [N, N]), ("shop", "open", [N])]
         self.right(plan, seeds, play, first, from_more(plan, seeds, play, first))
 
+    def test_what_bars_lies_in_what_bars(self):
+        """One deletion may take along what another ask would not let by."""
+        plan = Plan(THREE, [deed("go", [("box", None, {"a": "b"})], [(0, "cup", []), (None, "egg", [])])])
+        play = ([("box", "a", [])], [("do", "go", [0])])
+        egg = ("egg", "x", [])
+        first = [("box", "a", [("cup", "c", [egg, egg]), ("cup", "c", [])]), ("box", "b", [("cup", "c", [egg])])]
+        seeds = seeds_for(told(first), True)
+        found = from_more(plan, seeds, play, first)
+        self.right(plan, seeds, play, first, found)
+        # The two cups go first, one with its eggs; then the egg that is left, its cup stays.
+        self.assertEqual(found[1], [("delete", 1), ("delete", 2), ("delete", 7), ("do", "go", [0])])
+
     def test_limits(self):
         steps = [("do", "put", [0]) for _ in range(14)] + [("do", "send", [0, 1 + index]) for index in range(14)]
         play = (FIRST, [*steps, ("do", "close", [0])])
@@ -152,7 +164,7 @@ class Beside(Case):
         tried = 0
         while tried < 200:
             kinds = chance.choice(SOME_KINDS)
-            plan = random_plan(chance, kinds, 4, asks=2, turns=2)
+            plan = random_plan(chance, kinds, 4, asks=2, turns=2, news=3)
             if not any(is_local(plan, one[0]) for one in plan.all_deeds()):
                 continue
             plan = Plan(kinds, [one for one in plan.all_deeds() if is_local(plan, one[0])])

@@ -12,7 +12,7 @@ from tests.helpers import (
     GREAT, Case, Sour, as_lists, as_tuples, chance_of, no_beginnings, no_plans, no_stands, odd_things,
     random_beginning, random_stand, told,
 )
-from tests.test_anyof import BEGINNING, N, NEW_TWICE, P, shop
+from tests.test_anyof import BEGINNING, N, NEW_TWICE, shop
 from tests.test_asks import FREE, MENU, TWICE
 from tests.trials import BIG_KINDS, SOME_KINDS, leading_within, random_place, random_plan
 

@@ -96,7 +96,7 @@ class LeftOut(Case):
         nones = 0
         for _ in range(150):
             kinds = chance.choice(SOME_KINDS)
-            plan = random_plan(chance, kinds, 4, asks=2)
+            plan = random_plan(chance, kinds, 4, asks=2, news=3)
             first = random_stand(chance, kinds, 5)
             play = random_play(chance, plan, first, 8)
             seeds = seeds_for(told(first))
