@@ -17,11 +17,11 @@ class Back:
     def __init__(self, kinds, deed):
         self._kinds = kinds
         self._deed = deed
-        self._holders = _holders_of(deed[1])
+        self._chains = _chains_of(deed[1])
         self._ways = _turn_ways(deed[1])
         self._kept = {}
 
-    def name(self):
+    def deed_name(self):
         """Tell the deed's name."""
         return self._deed[0]
 
@@ -101,10 +101,10 @@ class Back:
 
     def _falls(self, place, source):
         """Tell whether others of this source, of the right kind, fall under an ask or turn with this place."""
-        return place is None or (source != TOP and place in self._holders[source])
+        return place is None or (source != TOP and place in self._chains[source])
 
 
-def _holders_of(who):
+def _chains_of(who):
     """Tell, for each of who, the list of itself and those of who in which it lies."""
     found = []
     for index, (_, lies, _) in enumerate(who):

@@ -38,7 +38,7 @@ def barrier_fault(backs, seeds, patterns, heaps):
             open_ones = [before for before in back.befores(heap) if not is_above_told(heaps, before)]
             if open_ones:
                 # The least of these are least of all: what lies in one of these is not above the list either.
-                return ("before", index, back.name(), least_told(open_ones)[0])
+                return ("before", index, back.deed_name(), least_told(open_ones)[0])
     return None
 
 

@@ -43,7 +43,7 @@ def before_all(plan, stand):
     """Tell a dict from the names of all deeds, ascending, to the least stands before each."""
     need_plan(plan)
     told = need_stand(plan.kinds(), stand)
-    return {back.name(): back.least_befores(told) for back in backs_of(plan)}
+    return {back.deed_name(): back.least_befores(told) for back in backs_of(plan)}
 
 
 def before_fault(plan, name, stand, thing):

@@ -39,7 +39,7 @@ class Leading:
                 for before in back.befores(heap):
                     if not is_above_told(last, before):
                         found.append(before)
-                        self._ways.setdefault(repr(before), (back.name(), heap))
+                        self._ways.setdefault(repr(before), (back.deed_name(), heap))
         self._fresh = least_told(found)
         if found:
             kept = [heap for heap in last if not is_above_told(self._fresh, heap)]

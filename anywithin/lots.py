@@ -30,7 +30,7 @@ def bringing_and_barring(plan, beginning, asked):
     """Tell the least lots that bring asked, and the least lots that bar it, both ascending."""
     told = need_asked(plan, beginning, asked)
     seeds = need_seeds(plan, beginning)
-    backs = {back.name(): back for back in backs_of(plan)}
+    backs = {back.deed_name(): back for back in backs_of(plan)}
     return least_lots(names_of(plan), lambda lot: comes([backs[name] for name in lot], seeds, [told]))
 
 

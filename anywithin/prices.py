@@ -47,6 +47,6 @@ def barred_by(plan, beginning, asked, names):
     seeds = need_seeds(plan, beginning)
     backs = backs_of(plan)
     for many in range(len(names) + 1):
-        if not comes([back for back in backs if back.name() not in names[:many]], seeds, [told]):
+        if not comes([back for back in backs if back.deed_name() not in names[:many]], seeds, [told]):
             return many
     return None
