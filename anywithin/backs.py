@@ -7,6 +7,7 @@ pairs of a source and the record of an other one that lay there).
 """
 
 from anywithin.least import least_told
+from anywithin.words import each_once
 
 TOP = -1
 
@@ -167,12 +168,3 @@ def _before(who, marks, others):
 
 def _without(free, index):
     return tuple([one for one in free if one != index])
-
-
-def each_once(things):
-    """Tell some things that can be ordered, ascending, each once."""
-    found = []
-    for thing in sorted(things):
-        if not found or found[-1] != thing:
-            found.append(thing)
-    return found

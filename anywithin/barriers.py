@@ -1,12 +1,11 @@
 """Told lists of stands that no deed leaves backwards, and in none of which anything begins."""
 
-from anywithin.backs import each_once
 from anywithin.fitting import fits_in
 from anywithin.least import is_above_told, least_told
 from anywithin.sowings import is_sown
 from anywithin.stands import is_stand
 from anywithin.trees import told_heap
-from anywithin.words import is_list
+from anywithin.words import each_once, is_list
 
 
 def form_index(kinds, thing):

@@ -3,6 +3,7 @@
 from anywithin.fitting import are_same
 from anywithin.least import least_told
 from anywithin.stands import need_mate_stand, need_stand
+from anywithin.words import each_once
 
 
 def overlays(kinds, stand, mate):
@@ -16,7 +17,7 @@ def overlays_told(heap, mate):
     # A state is (what is made so far, what of mate is not yet used), both ascending.
     states = [((), mate)]
     for record in heap:
-        states = _each_once([after for made, rest in states for after in _laid(record, made, rest)])
+        states = each_once([after for made, rest in states for after in _laid(record, made, rest)])
     return least_told([tuple(sorted([*made, *rest])) for made, rest in states])
 
 
@@ -30,12 +31,4 @@ def _laid(record, made, rest):
         for parts in overlays_told(record[2], other[2]):
             one = (record[0], record[1], parts)
             found.append((tuple(sorted([*made, one])), (*rest[:at], *rest[at + 1:])))
-    return found
-
-
-def _each_once(states):
-    found = []
-    for state in sorted(states):
-        if not found or found[-1] != state:
-            found.append(state)
     return found

@@ -45,3 +45,12 @@ def is_pair_key(thing):
 def is_path_key(thing):
     """Tell whether a key of a dict is a tuple of NUMBERS."""
     return isinstance(thing, tuple) and all([is_number(index) for index in thing])
+
+
+def each_once(things):
+    """Tell some things that can be ordered, ascending, each once."""
+    found = []
+    for thing in sorted(things):
+        if not found or found[-1] != thing:
+            found.append(thing)
+    return found
