@@ -118,9 +118,9 @@ def _turn_ways(who):
     ways = [((), [()])]
     for _, _, turn in who:
         goals = []
-        for goal in list(turn.values()):
-            if goal not in goals:
-                goals.append(goal)
+        for then in list(turn.values()):
+            if then not in goals:
+                goals.append(then)
         ways = [
             ((*results, goal), [(*marks, mark) for marks in choices for mark in turn if turn[mark] == goal])
             for results, choices in ways for goal in goals
@@ -153,8 +153,8 @@ def _images_of(deed, results):
 
 def _before(who, marks, others):
     """Tell the stand of who with these marks, and of the others where they lay."""
-    tops = [record for source, record in others if source == TOP]
-    inner = [[record for source, record in others if source == index] for index in range(len(who))]
+    tops = [other for source, other in others if source == TOP]
+    inner = [[other for source, other in others if source == at] for at in range(len(who))]
     for index in reversed(range(len(who))):
         kind, lies, _ = who[index]
         # What lies in it comes behind it in who, so it is whole by now.

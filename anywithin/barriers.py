@@ -34,10 +34,10 @@ def barrier_fault(backs, seeds, patterns, heaps):
             return ("begins", index)
     for index, heap in enumerate(heaps):
         for back in backs:
-            open_ones = [before for before in back.befores(heap) if not is_above_told(heaps, before)]
-            if open_ones:
+            unmet = [before for before in back.befores(heap) if not is_above_told(heaps, before)]
+            if unmet:
                 # The least of these are least of all: what lies in one of these is not above the list either.
-                return ("before", index, back.deed_name(), least_told(open_ones)[0])
+                return ("before", index, back.deed_name(), least_told(unmet)[0])
     return None
 
 

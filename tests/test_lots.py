@@ -2,6 +2,7 @@
 
 import itertools
 
+from anywithin.anyof import any_verdict
 from anywithin.errors import BadAsked, BadBeginning, BadNameList, BadPlan
 from anywithin.lots import (
     barring_lots, bringing_lots, idle_deeds, is_barring_lot, is_bringing_lot, lot_verdict, lots_fault, needed_deeds,
@@ -63,6 +64,10 @@ def lots_within(chance, kinds_list, many, deeds, records=3):
         if None not in [leading_within(without_deeds(plan, lot), asked) for lot in lots_of(names_of(plan))]:
             found.append((plan, random_beginning(chance, kinds, 2), asked))
     return found
+
+
+def any_first(plan, beginning, asked):
+    return any_verdict(plan, beginning, [asked, NEW_TWICE])
 
 
 class Lots(Case):
@@ -152,6 +157,16 @@ class Lots(Case):
                 self.assertEqual(call(plan, beginning, asked, prices), priced[0] if priced else None)
             sizes[len(bringing), len(barring)] = True
         self.assertGreater(len(sizes), 5)
+
+    def test_asked_again_and_again(self):
+        """What is told does not hang on what was asked of the plan ahead."""
+        plan = Plan(SHOPS, THREE.all_deeds())
+        questions = [(BEGINNING, ASKED), ([], ASKED), (BEGINNING, NEW_TWICE), (BEGINNING, [shop(N)]),
+                     ([("shop", "open", [("order", "new", [], False)], False)], [shop(P)])]
+        for call in [*ALL, verdict, any_first]:
+            wanted = [call(Plan(SHOPS, THREE.all_deeds()), *question) for question in questions]
+            for order in ([0, 1, 2, 3, 4], [4, 3, 2, 1, 0], [2, 2, 0, 4, 1]):
+                self.assertEqual([call(plan, *questions[index]) for index in order], [wanted[index] for index in order])
 
     def test_limits(self):
         for plan, beginning, asked in lots_within(chance_of(173), BIG_KINDS, 4, 6, 4):
