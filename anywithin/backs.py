@@ -1,15 +1,13 @@
 """One deed back: the stands from which a deed leads to a told stand.
 
-A source says where an other one lay ahead of the deed: an index of who, or TOP. An image is what one of who, or of
-news, is behind the deed: (kind, mark, holder), holder the index of the image in which it lies, None at the top;
-those of who have their own indexes, those of news come behind. A state is (indexes of the images that are free still,
-pairs of a source and the record of an other one that lay there).
+A source says where an other one lay ahead of the deed: an index of who, or, for the top, how many who there are. An
+image is what one of who, or of news, is behind the deed: (kind, mark, holder), holder the index of the image in which
+it lies, None at the top; those of who have their own indexes, those of news come behind. A state is (indexes of the
+images that are free still, pairs of a source and the record of an other one that lay there).
 """
 
 from anywithin.least import least_told
 from anywithin.words import each_once
-
-TOP = -1
 
 
 class Back:
@@ -69,9 +67,9 @@ class Back:
 
     def _sources(self, kind, place):
         """Tell where others of kind lay that lie directly in the image with index place, or at the top."""
-        if place is None:
-            return [TOP]
         who = self._deed[1]
+        if place is None:
+            return [len(who)]
         poured = [(index, _index_of(spot, who)) for index, part, spot in self._deed[4] if part == kind]
         found = [index for index, goal in poured if goal == place]
         if place < len(who) and place not in [index for index, _ in poured]:
@@ -102,15 +100,15 @@ class Back:
 
     def _falls(self, place, source):
         """Tell whether others of this source, of the right kind, fall under an ask or turn with this place."""
-        return place is None or (source != TOP and place in self._chains[source])
+        return place is None or place in self._chains[source]
 
 
 def _chains_of(who):
-    """Tell, for each of who, the list of itself and those of who in which it lies."""
+    """Tell, for each source, the list of those of who in which what lies there lies."""
     found = []
     for index, (_, lies, _) in enumerate(who):
         found.append([index] if lies is None else [index, *found[lies]])
-    return found
+    return [*found, []]
 
 
 def _turn_ways(who):
@@ -153,17 +151,13 @@ def _images_of(deed, results):
 
 def _before(who, marks, others):
     """Tell the stand of who with these marks, and of the others where they lay."""
-    tops = [other for source, other in others if source == TOP]
-    inner = [[other for source, other in others if source == at] for at in range(len(who))]
-    for index in reversed(range(len(who))):
+    top = len(who)
+    heaps = [[other for source, other in others if source == at] for at in range(top + 1)]
+    for index in reversed(range(top)):
         kind, lies, _ = who[index]
         # What lies in it comes behind it in who, so it is whole by now.
-        record = (kind, marks[index], tuple(sorted(inner[index])))
-        if lies is None:
-            tops.append(record)
-        else:
-            inner[lies].append(record)
-    return tuple(sorted(tops))
+        heaps[top if lies is None else lies].append((kind, marks[index], tuple(sorted(heaps[index]))))
+    return tuple(sorted(heaps[top]))
 
 
 def _without(free, index):

@@ -119,6 +119,8 @@ class Guarded(Case):
 class Least(Case):
 
     def test_example(self):
+        twice = ([shop()], [("do", "take", [0]), ("do", "take", [0])])
+        self.assertEqual(judged(FREE, BEGINNING, NEW_TWICE, ("told", twice)), "told")
         self.assertEqual(least_guards(FREE, BEGINNING, NEW_TWICE, MENU), GUARDS)
         self.assertEqual(least_openings(FREE, BEGINNING, NEW_TWICE, MENU), OPENINGS)
         self.assertIsNone(guards_fault(FREE, BEGINNING, NEW_TWICE, MENU, (GUARDS, OPENINGS)))

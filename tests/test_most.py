@@ -83,6 +83,8 @@ class AtMost(Case):
         most, play = most_of(PLAN, BEGINNING, OPEN, PAID, 1)
         self.assertIsNone(most)
         self.assertIs(is_bringing(PLAN, BEGINNING, [shop(P, P)], play), True)
+        steps = [("do", "take", [0]), ("do", "pay", [0, 1]), ("do", "take", [0]), ("do", "pay", [0, 2])]
+        self.assertEqual(any_judged(PLAN, BEGINNING, crowds(SHOPS, OPEN, PAID, 2), ("told", ([shop()], steps))), "told")
 
     def test_none_at_all(self):
         self.assertEqual(most_of(Plan(SHOPS, [PAY]), BEGINNING, OPEN, NEW, 3), (0, [(shop(N),)]))
