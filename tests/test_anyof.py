@@ -141,8 +141,10 @@ class Both(Case):
     def test_both(self):
         self.assertEqual(both_verdict(PLAN, BEGINNING, NEW_TWICE, [shop(P)])[0], "never")
         for stand in ([shop()], [shop(N)], [shop(P, P), shop()], NEW_TWICE):
-            self.assertEqual(both_verdict(PLAN, BEGINNING, NEW_TWICE, stand), ("never", [NEW_TWICE]))
-            self.assertEqual(both_verdict(PLAN, BEGINNING, stand, NEW_TWICE), ("never", [NEW_TWICE]))
+            word, wall = both_verdict(PLAN, BEGINNING, NEW_TWICE, stand)
+            self.assertEqual(word, "never")
+            self.assertEqual(both_verdict(PLAN, BEGINNING, stand, NEW_TWICE), (word, wall))
+            self.assertTrue(all(plain_lies(NEW_TWICE, heap) for heap in wall))
         self.assertEqual(both_verdict(PLAN, BEGINNING, NEW_TWICE, []), ("never", [NEW_TWICE]))
         word, play = both_verdict(PLAN, BEGINNING, [shop(N)], [shop(P)])
         self.assertEqual(word, "told")
