@@ -16,7 +16,8 @@ def held(kinds, above, heap):
     There is one for each choice of the marks of these, ascending; for "" the records are tops.
     """
     heaps = [heap]
+    # Marks come ascending, and those further out are put ahead: so the stands stay ascending.
     while above != "":
         heaps = [((above, mark, one),) for mark in kinds.marks(above) for one in heaps]
         above = kinds.above(above)
-    return sorted(heaps)
+    return heaps
