@@ -19,6 +19,7 @@ class Back:
         self._chains = _chains_of(deed[1])
         self._ways = _turn_ways(deed[1])
         self._kept = {}
+        self._marks = {}
 
     def deed_name(self):
         """Tell the deed's name."""
@@ -79,7 +80,10 @@ class Back:
     def _records_before(self, record, source):
         """Tell what an other one that is record behind the deed may have been ahead of it."""
         kind, mark, parts = record
-        marks = self._marks_before(kind, mark, source)
+        key = (kind, mark, source)
+        if key not in self._marks:
+            self._marks[key] = self._marks_before(kind, mark, source)
+        marks = self._marks[key]
         heaps = [()] if marks else []
         for part in parts:
             befores = self._records_before(part, source)

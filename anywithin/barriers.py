@@ -1,5 +1,6 @@
 """Told lists of stands that no deed leaves backwards, and in none of which anything begins."""
 
+from anywithin.beneath import Beneath
 from anywithin.fitting import fits_in
 from anywithin.least import is_above_told, least_told
 from anywithin.sowings import is_sown
@@ -32,9 +33,10 @@ def barrier_fault(backs, seeds, patterns, heaps):
     for index, heap in enumerate(heaps):
         if is_sown(seeds, heap):
             return ("begins", index)
+    beneath = Beneath(heaps)
     for index, heap in enumerate(heaps):
         for back in backs:
-            unmet = [before for before in back.befores(heap) if not is_above_told(heaps, before)]
+            unmet = [before for before in back.befores(heap) if not beneath.has_above(before)]
             if unmet:
                 # The least of these are least of all: what lies in one of these is not above the list either.
                 return ("before", index, back.deed_name(), least_told(unmet)[0])

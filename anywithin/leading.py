@@ -1,10 +1,11 @@
 """Back from some stands, one deed at a time: the least stands from which one of them can come."""
 
 from anywithin.backs import Back
+from anywithin.beneath import Beneath
 from anywithin.choosing import numbers_leading
 from anywithin.clearings import do_cleared
 from anywithin.grounds import Ground
-from anywithin.least import is_above_told, least_told
+from anywithin.least import least_told
 from anywithin.sowings import is_sown
 from anywithin.standing import standing
 
@@ -33,16 +34,18 @@ class Leading:
 
     def _go_on(self):
         last = self._rounds[-1]
+        beneath = Beneath(last)
         found = []
         for heap in self._fresh:
             for back in self._backs:
                 for before in back.befores(heap):
-                    if not is_above_told(last, before):
+                    if not beneath.has_above(before):
                         found.append(before)
                         self._ways.setdefault(repr(before), (back.deed_name(), heap))
         self._fresh = least_told(found)
         if found:
-            kept = [heap for heap in last if not is_above_told(self._fresh, heap)]
+            beneath = Beneath(self._fresh)
+            kept = [heap for heap in last if not beneath.has_above(heap)]
             self._rounds.append(sorted([*kept, *self._fresh]))
 
     def way(self, heap):

@@ -1,5 +1,6 @@
 """The least of some stands, and what lies above them."""
 
+from anywithin.beneath import Beneath
 from anywithin.errors import BadStands
 from anywithin.fitting import fits_in
 from anywithin.kinds import need_kinds
@@ -28,13 +29,15 @@ def least_told(heaps):
     """Tell the least of some told stands, ascending."""
     found, beside = [], []
     reached = 0
+    beneath = Beneath(found)
     # What lies in another one and is not alike to it is smaller, so smaller ones go first.
     for many, heap in sorted([(heap_size(heap), heap) for heap in heaps]):
         if many > reached:
             found.extend(beside)
             beside = []
             reached = many
-        if (not beside or beside[-1] != heap) and not is_above_told(found, heap):
+            beneath = Beneath(found)
+        if (not beside or beside[-1] != heap) and not beneath.has_above(heap):
             beside.append(heap)
     return sorted([*found, *beside])
 
