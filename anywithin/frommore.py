@@ -9,7 +9,7 @@ from anywithin.grounds import Ground
 from anywithin.plans import need_plan
 from anywithin.plays import do_step, is_play, need_play
 from anywithin.steps import led_over
-from anywithin.trees import heap_size, numbers_of, paths_in, rows_of, told_heap
+from anywithin.trees import heap_size, paths_in, places_of, rows_of, told_heap
 
 
 def from_more(plan, beginning, play, first):
@@ -74,7 +74,7 @@ def _numbers_beside(heap, mate):
     rows = {number: row for number, row in enumerate(rows_of(heap))}
     for number, (kind, mark, holder) in enumerate(rows_of(mate)):
         rows[many + number] = (kind, mark, None if holder is None else many + holder)
-    places = {number: place for place, number in enumerate(numbers_of(rows))}
+    places = places_of(rows)
     return (
         {number: places[number] for number in range(many)},
         {number: places[many + number] for number in range(heap_size(mate))},

@@ -64,6 +64,12 @@ class Ground:
         twin._given = self._given
         return twin
 
+    def handed(self, plan):
+        """Tell a Ground with the same records, on which another plan of the same kinds goes on."""
+        twin = self.copy()
+        twin._plan = plan
+        return twin
+
     def delete(self, number):
         """Let a record go, with all that lies in it."""
         self._need_here(number)

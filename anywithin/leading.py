@@ -90,18 +90,26 @@ def first_beginning(leading, seeds):
 
 def play_from(plan, leading, heap):
     """Tell the play that begins with a told stand of a round, and goes the way on which it came in."""
-    ground = Ground(plan, heap)
+    steps, _ = way_done(Ground(plan, heap), leading, heap)
+    return (heap, steps)
+
+
+def way_done(ground, leading, heap):
+    """Do on a ground, in which a told stand of a round lies, the deeds on the way on which it came in.
+
+    Tell the steps that were done, and the stand of the first round that lies in the ground then.
+    """
     steps = []
     at = heap
     way = leading.way(at)
     while way is not None:
-        deed = plan.deed(way[0])
+        deed = ground.plan().deed(way[0])
         numbers = numbers_leading(deed, at, way[1])
         there = list(standing(at, ground).values())
         steps.extend(do_cleared(ground, deed, [there[number] for number in numbers]))
         at = way[1]
         way = leading.way(at)
-    return (heap, steps)
+    return steps, at
 
 
 def comes(backs, seeds, heaps):

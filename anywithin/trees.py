@@ -56,6 +56,11 @@ def numbers_of(rows):
     return [number for _, numbers in _placed(_inner_of(rows), rows, None) for number in numbers]
 
 
+def places_of(rows):
+    """Tell a dict from the numbers of the rows to those that the same records have in the told stand."""
+    return {number: place for place, number in enumerate(numbers_of(rows))}
+
+
 def _inner_of(rows):
     """Tell which numbers lie directly in which one, None for the top ones."""
     inner = {None: []}

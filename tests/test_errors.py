@@ -83,6 +83,30 @@ INTERFACE = {
     "meeting": "least_meeting(lots)",
     "prices": "cheapest_bar(plan,beginning,asked,prices) cheapest_way(plan,beginning,asked,prices) "
               "barred_by(plan,beginning,asked,names)",
+    "watchers": "is_watcher(plan,kind,thing) watched(plan,kind,watcher) "
+                "watched_beginning(plan,kind,watcher,beginning) joined_watcher(plan,kind,watcher,other)",
+    "watchedplays": "watched_play(plan,beginning,kind,watcher,play) unwatched_play(plan,beginning,kind,watcher,play) "
+                    "state_behind(plan,beginning,kind,watcher,play,number)",
+    "watchedstands": "unwatched(plan,kind,watcher,stand) watched_stands(plan,kind,watcher,stand)",
+    "levels": "without_kind(plan,kind) stand_without_kind(plan,stand,kind) "
+              "beginning_without_kind(plan,beginning,kind) play_without_kind(plan,beginning,play,kind)",
+    "between": "plan_under(plan,top,mark) stand_under(plan,stand,top,mark) beginning_under(plan,beginning,top,mark) "
+               "play_under(plan,beginning,play,top,mark) play_within(plan,beginning,top,mark,play,number)",
+    "twoplans": "both_plans(plan,newer) is_narrower(plan,newer) first_wider(plan,newer)",
+    "handovers": "handover(plan,newer,beginning,asked) handover_judged(plan,newer,beginning,asked,thing)",
+    "upgrades": "upgrade(plan,newer,beginning,asked) only_mixed(plan,newer,beginning,many) "
+                "only_together(plan,newer,beginning,many)",
+    "beds": "is_bed(kinds,thing) in_bed(kinds,bed,stand) bed_within(kinds,bed,cover) told_bed(kinds,bed) "
+            "greatest_beds(kinds,beds) beds_met(kinds,bed,cover)",
+    "gardens": "garden_of(kinds,stands) wall_of(kinds,beds) garden_fault(kinds,stands,thing)",
+    "safe": "bed_of(kinds,beginning) beginning_of(kinds,bed) safe_beginnings(plan,asked)",
+    "kindtexts": "kinds_text(kinds) read_kinds(text) kinds_text_fault(text)",
+    "standtexts": "stand_text(kinds,stand) read_stand(kinds,text) stand_text_fault(kinds,text) stands_text(kinds,stands) "
+                  "read_stands(kinds,text) stands_text_fault(kinds,text) beginning_text(kinds,beginning) "
+                  "read_beginning(kinds,text) beginning_text_fault(kinds,text)",
+    "plantexts": "plan_text(plan) read_plan(kinds,text) plan_text_fault(kinds,text)",
+    "playtexts": "play_text(plan,play) read_play(plan,text) play_text_fault(plan,text)",
+    "desks": "Desk(kinds,beginning)",
 }
 
 METHODS = {
@@ -91,6 +115,8 @@ METHODS = {
     ("plans", "Plan"): "kinds() all_deeds() deed(name) __eq__(other)",
     ("grounds", "Ground"): "plan() numbers() given() record(number) parts(number) stand() copy() delete(number) "
                            "do(name,numbers) others(name,numbers,place,kind) __eq__(other)",
+    ("desks", "Desk"): "add(deed) drop(name) put_ask(name,ask) take_ask(name,index) keep(asked) free(asked) plan() "
+                       "beginning() kept() would(deed) undo() redo() copy() __eq__(other)",
 }
 
 
