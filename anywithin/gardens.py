@@ -1,6 +1,6 @@
 """Gardens: the greatest beds in which none of some stands lies; and the least stands in none of some beds."""
 
-from anywithin.bedding import greatest_told, is_bed_within, told_bed_of
+from anywithin.bedding import is_bed_within, told_bed_of
 from anywithin.beds import is_bed, need_beds, seeds_of_bed
 from anywithin.least import is_above_told, need_stands
 from anywithin.planting import garden_told, wall_told

@@ -60,7 +60,7 @@ def wall_told(kinds, above, beds):
     """Tell the least told heaps that lie in none of some told beds, ascending."""
     found = [()]
     for bed in greatest_told(beds):
-        beside = _outside_one(kinds, above, bed)
+        beside = _beyond_one(kinds, above, bed)
         found = least_told([both for heap in found for both in _above_both(heap, beside)])
     return found
 
@@ -72,7 +72,7 @@ def _above_both(heap, others):
     return [both for other in others for both in overlays_told(heap, other)]
 
 
-def _outside_one(kinds, above, bed):
+def _beyond_one(kinds, above, bed):
     """Tell the least told heaps that do not lie in a told bed.
 
     One does not if some of its records, more than the places of a lot, lie in none of all other places.

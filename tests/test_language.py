@@ -127,11 +127,14 @@ class Language(unittest.TestCase):
             compile copyright credits delattr dir eval exec exit gc getattr globals hasattr help id importlib license
             locals methodcaller os quit setattr super type vars sys
         """.split())
+        begins = re.compile("_(wall|pe_|dcw_|enum_|cm_|twin_re_|lay_|law_|stub_|sre|WallAttr|(cold|tuplegetter|outside|record"
+                            "|written_out|member_names)[0-9_]*$)")
         inside = re.compile("\\b(type|typing|enum|Enum|Generic|Protocol|ABC|namedtuple|NamedTuple|TypedDict)\\b|%|__")
         for name, tree in self.trees.items():
             self.assertFalse(bound(tree) & barred, name)
             names = bound(tree) - {"__init__", "__eq__", "__str__", "__repr__", "__class__"}
-            self.assertFalse([one for one in names if one.startswith("__")], name)
+            self.assertFalse([one for one in names if one.startswith("__") or begins.match(one)], name)
+            self.assertIsNone(re.search(r"\b_wall\b", self.texts[name]), name)
             docs = {id(node.body[0].value) for node in ast.walk(tree)
                     if isinstance(node, (ast.Module, ast.ClassDef, ast.FunctionDef)) and node.body
                     and isinstance(node.body[0], ast.Expr)}

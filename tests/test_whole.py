@@ -270,6 +270,35 @@ class Whole(Case):
                 self.assertEqual(wall, shown)
                 self.assertEqual(judged(again, begun, asked, ("never", wall)), "never")
 
+    def test_asked_again_and_again(self):
+        """One plan may be asked of many things, in whatever order: the answers are those of a new plan."""
+        chance = chance_of(261)
+        for kinds, plan, begun, asked, _, _ in cases(chance, 10):
+            other = random_plan(chance, kinds, 2, asks=1, news=1)
+            newer = Plan(kinds, [(f"x{deed[0]}", *deed[1:]) for deed in other.all_deeds()])
+            kind = chance.choice(kinds.all_kinds())
+            watchers = [random_watcher(chance, kinds, kind) for _ in range(2)]
+            if leading_within(both_plans(plan, newer), asked) is None:
+                continue
+
+            def answers(mine, theirs):
+                return {
+                    **{f"watched{at}": lambda at=at: watched(mine, kind, watchers[at]) for at in range(2)},
+                    "handed": lambda: handover(mine, theirs, begun, asked), "back": lambda: handover(theirs, mine, begun, asked),
+                    "upgrade": lambda: upgrade(mine, theirs, begun, asked), "empty": lambda: upgrade(mine, theirs, [], asked),
+                    "under": lambda: plan_under(mine, "all", "one"), "safe": lambda: safe_beginnings(mine, asked),
+                    "text": lambda: plan_text(mine), "verdict": lambda: verdict(mine, begun, asked), "none": lambda: verdict(mine, [], asked),
+                }
+
+            wanted = {}
+            for name in answers(plan, newer):
+                fresh = Plan(kinds, plan.all_deeds()), Plan(kinds, newer.all_deeds())
+                wanted[name] = answers(*fresh)[name]()
+            names = list(wanted) * 2
+            chance.shuffle(names)
+            for name in names:
+                self.assertEqual(answers(plan, newer)[name](), wanted[name])
+
     def test_told_forms_are_one(self):
         """told_stand, told seeds and told beds: told again they stay."""
         chance = chance_of(260)
